@@ -1,0 +1,1 @@
+"""Sumcraft: rows of fractions by rules, and sums that telescope."""
