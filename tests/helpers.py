@@ -2,7 +2,7 @@
 
 import random
 from fractions import Fraction
-from math import gcd
+from math import comb, gcd
 
 SIXTY = 10 ** 59 + 7
 THREE_HUNDRED = 10 ** 299 + 9
@@ -73,3 +73,63 @@ def plain_common(one, other):
     tops = [int(x * bottoms) for x in a]
     inner = gcd(*tops) * (1 if tops[-1] > 0 else -1)
     return [whole * x // inner for x in tops]
+
+
+def plain_plus(one, other):
+    size = max(len(one), len(other))
+    answer = [sum(poly[i] for poly in (one, other) if i < len(poly)) for i in range(size)]
+    while answer and answer[-1] == 0:
+        answer.pop()
+    return answer
+
+
+def plain_shifted(poly, by):
+    return [
+        sum(poly[power] * comb(power, place) * by ** (power - place) for power in range(place, len(poly)))
+        for place in range(len(poly))
+    ]
+
+
+def pairs_of(numbers):
+    """Fractions of the program's kind."""
+    return [(Fraction(x).numerator, Fraction(x).denominator) for x in numbers]
+
+
+def plain_rule_sum(rule, values, n):
+    return sum(plain_value(poly, n) * values[n + i] for i, poly in enumerate(rule))
+
+
+def plain_row(rule, first, many):
+    """The first many values of a row, reckoned with Python's fractions."""
+    values = [Fraction(x) for x in first]
+    order = len(rule) - 1
+    while len(values) < many:
+        n = len(values) - order
+        ahead = sum(plain_value(rule[i], n) * values[n + i] for i in range(order))
+        values.append(-ahead / plain_value(rule[-1], n))
+    return values[:many]
+
+
+def determinant(table):
+    """The determinant of a square table of whole numbers."""
+    rows = [[Fraction(x) for x in row] for row in table]
+    answer = Fraction(1)
+    for step in range(len(rows)):
+        found = [i for i in range(step, len(rows)) if rows[i][step] != 0]
+        if not found:
+            return 0
+        if found[0] != step:
+            rows[step], rows[found[0]] = rows[found[0]], rows[step]
+            answer = -answer
+        answer *= rows[step][step]
+        for i in range(step + 1, len(rows)):
+            factor = rows[i][step] / rows[step][step]
+            if factor != 0:
+                rows[i] = [x - factor * y for x, y in zip(rows[i], rows[step])]
+    return answer
+
+
+NO_RULES = [
+    [], [[]], [[], []], [[1], []], [[0, 1], [1], []], [[0]], [[1, 0]], [[0], [1]], [[1, 0], [1]], [[1], [0]],
+    [[1], [1, 0]], [[1], [0, 0], [1]], [[1], [5, 0], []], [[SIXTY, 0], [1]], [[1], [THREE_HUNDRED, 0]],
+]

@@ -24,6 +24,7 @@ EXPRESSIONS = (
     ast.IfExp, ast.Call, ast.Attribute, ast.Subscript, ast.Slice, ast.ListComp, ast.JoinedStr, ast.FormattedValue,
     ast.Lambda,
 )
+VALUES = set("count index title find get join lower upper split strip copy add".split())
 WALKED = {"zip", "enumerate", "reversed", "range"}
 WALKED_METHODS = {"items", "keys", "values"}
 WALKERS = {"list", "tuple", "dict", "sorted", "sum", "any", "all", "enumerate", "zip"}
@@ -225,6 +226,34 @@ class Form(unittest.TestCase):
                 self.assertIn(node.func.attr, METHODS | own, where)
         values = {node.attr for _, node, _ in self.each(ast.Attribute) if isinstance(node.ctx, ast.Store)}
         self.assertEqual(sorted(values & own), [])
+        python = {name for kind in (str, int, list, dict, tuple, set, bytes) for name in dir(kind)}
+        self.assertEqual(sorted(own & python - METHODS - DUNDERS - {"add", "discard"}), [])
+        self.assertEqual(sorted(values & (python | {"args"}) - VALUES), [])
+
+    def test_values_are_given_through_a_local_name(self):
+        for source, node, where in self.each(ast.Attribute):
+            if isinstance(node.ctx, ast.Store):
+                self.assertIsInstance(node.value, ast.Name, where)
+                tops = [thing.name for thing in source.tree.body if isinstance(thing, (ast.FunctionDef, ast.ClassDef))]
+                self.assertNotIn(node.value.id, tops, where)
+
+    def test_no_method_stands_twice_and_init_gives_back_nothing(self):
+        for _, node, where in self.each(ast.ClassDef):
+            names = [inner.name for inner in node.body if isinstance(inner, ast.FunctionDef)]
+            self.assertEqual(len(names), len(set(names)), where)
+            for inner in node.body:
+                if isinstance(inner, ast.FunctionDef) and inner.name == "__init__":
+                    self.assertFalse([thing for thing in ast.walk(inner) if isinstance(thing, ast.Return)], where)
+
+    def test_nothing_of_a_files_top_is_changed(self):
+        for source in SOURCES:
+            tops = [thing.targets[0].id for thing in source.tree.body if isinstance(thing, ast.Assign)]
+            for node in source.of(ast.Name):
+                if node.id in tops and isinstance(node.ctx, ast.Store):
+                    self.assertIs(source.parent[source.parent[node]], source.tree, source.where(node))
+            for node in source.of(ast.Subscript):
+                if isinstance(node.ctx, ast.Store) and isinstance(node.value, ast.Name):
+                    self.assertNotIn(node.value.id, tops, source.where(node))
 
     def test_walked_at_once(self):
         for source, node, where in self.each(ast.Call):
