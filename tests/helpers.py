@@ -106,8 +106,77 @@ def plain_row(rule, first, many):
     while len(values) < many:
         n = len(values) - order
         ahead = sum(plain_value(rule[i], n) * values[n + i] for i in range(order))
-        values.append(-ahead / plain_value(rule[-1], n))
+        values.append(Fraction(-ahead) / plain_value(rule[-1], n))
     return values[:many]
+
+
+def minus(poly):
+    return [-number for number in poly]
+
+
+def plain_coords(rule, far):
+    """The coords, word for word as the document tells them."""
+    order = len(rule) - 1
+    if far < order:
+        return [[1] if i == far else [] for i in range(order)], [1]
+    bottom = [1]
+    for t in range(far - order + 1):
+        bottom = plain_times(bottom, plain_shifted(rule[-1], t))
+    if order == 0:
+        return [], bottom
+    v = [plain_shifted(poly, 1) for poly in plain_coords(rule, far - 1)[0]]
+    w = v[-1]
+    tops = [minus(plain_times(w, rule[0]))]
+    for i in range(1, order):
+        tops.append(plain_plus(plain_times(rule[-1], v[i - 1]), minus(plain_times(w, rule[i]))))
+    return tops, bottom
+
+
+def plain_quotient(one, other):
+    """The quotient of polynomials where the other divides the one, with fractions on the way."""
+    rest, answer = [Fraction(x) for x in one], [0] * max(0, len(one) - len(other) + 1)
+    for low in range(len(answer) - 1, -1, -1):
+        answer[low] = rest[low + len(other) - 1] / other[-1]
+        for place, number in enumerate(other):
+            rest[low + place] -= answer[low] * number
+    assert not any(rest) and all(x.denominator == 1 for x in answer)
+    return [int(x) for x in answer]
+
+
+def plain_common_of(polys):
+    shared = []
+    for poly in polys:
+        shared = plain_common(shared, poly) if shared or poly else []
+    return shared
+
+
+def plain_thinned(polys):
+    """Thinned, word for word as the document tells it."""
+    shared = plain_common_of(polys)
+    if shared[0] == 0 or min(shared) < 0:
+        shared = [gcd(*[number for poly in polys for number in poly])]
+    answer = [plain_quotient(poly, shared) for poly in polys]
+    if answer[-1] and answer[-1][-1] < 0:
+        answer = [minus(poly) for poly in answer]
+    return answer
+
+
+def plain_relation(vectors):
+    """The relation of the first vector that hangs on those ahead, by steps that leave no fraction."""
+    width, kept = len(vectors[0]), []
+    for number, vector in enumerate(vectors):
+        row = list(vector) + [[1] if i == number else [] for i in range(len(vectors))]
+        for base, column in kept:
+            factor = minus(row[column])
+            row = [plain_plus(plain_times(base[column], x), plain_times(factor, y)) for x, y in zip(row, base)]
+            shared = plain_common_of(row)
+            row = [plain_quotient(poly, shared) for poly in row]
+        found = [column for column in range(width) if row[column]]
+        if not found:
+            weights = row[width:width + number + 1]
+            return weights if weights[-1][-1] > 0 else [minus(poly) for poly in weights]
+        kept.append((row, found[0]))
+    return None
 
 
 def determinant(table):

@@ -4,35 +4,12 @@ import copy
 import unittest
 
 from helpers import (
-    NO_RULES, SIXTY, THREE_HUNDRED, any_poly, dice, plain_plus, plain_row, plain_shifted, plain_times, plain_value,
-    refused,
+    NO_RULES, SIXTY, THREE_HUNDRED, any_poly, dice, plain_coords, plain_row, plain_value, refused,
 )
 from sumcraft.coords import coords
 from sumcraft.errors import NoRule
 
 FIBONACCI = [[-1], [-1], [1]]
-
-
-def minus(poly):
-    return [-number for number in poly]
-
-
-def plain_coords(rule, far):
-    """The coords, word for word as the document tells them."""
-    order = len(rule) - 1
-    if far < order:
-        return [[1] if i == far else [] for i in range(order)], [1]
-    bottom = [1]
-    for t in range(far - order + 1):
-        bottom = plain_times(bottom, plain_shifted(rule[-1], t))
-    if order == 0:
-        return [], bottom
-    v = [plain_shifted(poly, 1) for poly in plain_coords(rule, far - 1)[0]]
-    w = v[-1]
-    tops = [minus(plain_times(w, rule[0]))]
-    for i in range(1, order):
-        tops.append(plain_plus(plain_times(rule[-1], v[i - 1]), minus(plain_times(w, rule[i]))))
-    return tops, bottom
 
 
 def some_rules():
