@@ -69,3 +69,11 @@ def pair_moved(one, a, b):
 def pair_value(one, n, k):
     """The value at n and k."""
     return poly_value([poly_value(poly, n) for poly in by_k(one)], k)
+
+
+def pair_product(pairs):
+    """The product of all polynomials of a list; 1 where there is none."""
+    answer = {(0, 0): 1}
+    for pair in pairs:
+        answer = pair_times(answer, pair)
+    return answer

@@ -5,6 +5,7 @@ import unittest
 from math import comb
 
 from helpers import SIXTY, THREE_HUNDRED, any_number, dice
+from plain_terms import bare, plain_pair_moved, plain_pair_plus, plain_pair_times, plain_pair_value
 from sumcraft.pairs import by_k, degree_in_k, pair_moved, pair_of_form, pair_plus, pair_times, pair_value
 
 N_PLUS_K = {(1, 0): 1, (0, 1): 1}
@@ -24,35 +25,6 @@ def any_pair(rng, many, power, figures):
     for _ in range(many):
         answer[(rng.randrange(power + 1), rng.randrange(power + 1))] = any_number(rng, figures) or 1
     return answer
-
-
-def bare(pair):
-    return {powers: number for powers, number in pair.items() if number != 0}
-
-
-def plain_pair_value(pair, n, k):
-    return sum(number * n ** i * k ** j for (i, j), number in pair.items())
-
-
-def plain_pair_plus(one, other):
-    return bare({powers: one.get(powers, 0) + other.get(powers, 0) for powers in {**one, **other}})
-
-
-def plain_pair_times(one, other):
-    answer = {}
-    for (i, j), number in one.items():
-        answer = plain_pair_plus(answer, {(i + p, j + q): number * factor for (p, q), factor in other.items()})
-    return answer
-
-
-def plain_pair_moved(pair, a, b):
-    answer = {}
-    for (i, j), number in pair.items():
-        for p in range(i + 1):
-            for q in range(j + 1):
-                part = number * comb(i, p) * a ** (i - p) * comb(j, q) * b ** (j - q)
-                answer[(p, q)] = answer.get((p, q), 0) + part
-    return bare(answer)
 
 
 class Pairs(unittest.TestCase):
