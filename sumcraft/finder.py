@@ -106,6 +106,7 @@ def searched(term):
     check_term(term)
     far = 0
     found = found_for(term, far)
+    # This ends: for far = breadth there are height + 3 vectors, and they are height + 2 polynomials wide at most.
     while found is None:
         far += 1
         found = found_for(term, far)
